@@ -1,0 +1,1 @@
+"""Logsapart: the order of deeds out of logs that several hands kept apart."""

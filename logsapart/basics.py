@@ -1,0 +1,33 @@
+"""What a number, a row of numbers and a sequence are; small helpers over rows."""
+
+
+def is_number(value):
+    """Whether any value is an integer from 0 on; a bool is none."""
+    return isinstance(value, int) and not isinstance(value, bool) and value >= 0
+
+
+def is_below(value, bound):
+    """Whether any value is a number below a bound."""
+    return is_number(value) and value < bound
+
+
+def is_sequence(value):
+    """Whether any value is a list or a tuple."""
+    return isinstance(value, (list, tuple))
+
+
+def fits_bounds(value, bounds):
+    """Whether any value is a sequence of numbers, one below each of the bounds."""
+    if not is_sequence(value) or len(value) != len(bounds):
+        return False
+    return all([is_below(item, bound) for item, bound in zip(value, bounds)])
+
+
+def as_tuples(rows):
+    """A tuple of tuples of the items of some rows."""
+    return tuple([tuple(row) for row in rows])
+
+
+def with_item(row, at, item):
+    """A tuple that is like another one but for the item at an index."""
+    return row[:at] + (item,) + row[at + 1:]

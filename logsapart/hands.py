@@ -1,0 +1,113 @@
+"""Hands with their marks, their share, and the stories of who acted."""
+
+from math import gcd, lcm
+
+from logsapart.basics import is_below, is_sequence
+from logsapart.errors import BadHands, BadStory, NoHand, NoTelling, Refused
+
+FEWEST_HANDS = 2
+MOST_HANDS = 8
+MOST_MARKS = 60
+LONGEST = 10000
+
+
+class Hands:
+    """Hands, numbered from 0, each with a number of marks of its own."""
+
+    def __init__(self, marks):
+        at = wrong_marks(marks)
+        if at is not None:
+            raise BadHands(at)
+        self.marks = tuple(marks)
+        self.many = len(self.marks)
+
+    def __eq__(self, other):
+        return isinstance(other, Hands) and self.marks == other.marks
+
+
+def is_marks_number(value):
+    """Whether any value is a number of marks that a hand may have."""
+    return is_below(value, MOST_MARKS + 1) and value > 0
+
+
+def wrong_marks(value):
+    """None if any value is what Hands takes, else what BadHands tells of it."""
+    if not is_sequence(value) or len(value) < FEWEST_HANDS or len(value) > MOST_HANDS:
+        return -1
+    for at, marks in enumerate(value):
+        if not is_marks_number(marks):
+            return at
+    return None
+
+
+def share(hands):
+    """The sum of 1 / k over the hands' numbers k of marks: (top, bottom) in least terms."""
+    top = 0
+    bottom = 1
+    for marks in hands.marks:
+        top = top * marks + bottom
+        bottom = bottom * marks
+    common = gcd(top, bottom)
+    return (top // common, bottom // common)
+
+
+def is_telling(hands):
+    """Whether the share is at most 1."""
+    top, bottom = share(hands)
+    return top <= bottom
+
+
+def need_telling(hands):
+    """The hands, if their share is at most 1."""
+    top, bottom = share(hands)
+    if top > bottom:
+        raise NoTelling(top, bottom)
+    return hands
+
+
+def need_hand(hands, hand):
+    """The hand, if any value is one."""
+    if not is_below(hand, hands.many):
+        raise NoHand(hand)
+    return hand
+
+
+def check_story(hands, value):
+    """Any value as a tuple, if it is a story of these hands."""
+    if not is_sequence(value) or len(value) > LONGEST:
+        raise BadStory(-1)
+    for at, hand in enumerate(value):
+        if not is_below(hand, hands.many):
+            raise BadStory(at)
+    return tuple(value)
+
+
+def room(hands):
+    """What the share leaves of 1: (top, bottom) in least terms."""
+    top, bottom = share(need_telling(hands))
+    # A divisor of bottom and bottom - top divides top, too: these are least terms.
+    return (bottom - top, bottom)
+
+
+def new_marks(hands):
+    """The fewest marks with which one hand more finds room; None if there is no room."""
+    top, bottom = room(hands)
+    if top == 0:
+        return None
+    return (bottom + top - 1) // top
+
+
+def hands_more(hands, marks):
+    """How many hands more, each with so many marks, find room."""
+    top, bottom = room(hands)
+    if not is_marks_number(marks):
+        raise Refused(marks)
+    return top * marks // bottom
+
+
+def common_multiple(hands):
+    """The least common multiple of all numbers of marks."""
+    multiple = 1
+    for marks in hands.marks:
+        multiple = lcm(multiple, marks)
+    return multiple

@@ -1,0 +1,69 @@
+"""The interface: names, arguments and files, as the document lists them."""
+
+import inspect
+import unittest
+from importlib import import_module
+
+# By file, by name: the parameters; those of a class are the ones that it is called with.
+FUNCTIONS = {
+    "hands": {
+        "share": "hands", "is_telling": "hands", "need_telling": "hands", "need_hand": "hands hand",
+        "check_story": "hands value", "room": "hands", "new_marks": "hands", "hands_more": "hands marks",
+    },
+    "logs": {
+        "check_logs": "hands value", "last_marks": "hands logs", "story_counts": "hands story",
+        "laid_logs": "hands story marks", "marks_along": "hands story logs", "struck_logs": "hands logs hand",
+    },
+    "texts": {
+        "hands_text": "hands", "read_hands": "text", "story_text": "hands story", "read_story": "hands text",
+        "logs_text": "hands logs", "read_logs": "hands text",
+    },
+}
+CLASSES = {
+    "errors": {
+        "LogError": None, "BadHands": "at", "BadKinds": "at", "BadStory": "at", "BadLogs": "at", "BadText": "at",
+        "Refused": "at", "TooGreat": "most", "NoTelling": "top bottom", "NoHand": "hand",
+    },
+    "hands": {"Hands": "marks"},
+}
+# By file, class and method: the parameters behind the object.
+METHODS = {}
+
+
+def written(call):
+    """The parameters of a call, told as in the tables above."""
+    words = []
+    for parameter in inspect.signature(call).parameters.values():
+        if parameter.kind == parameter.KEYWORD_ONLY and "*" not in words:
+            words.append("*")
+        default = "" if parameter.default is parameter.empty else f"={parameter.default}"
+        words.append(parameter.name + default)
+    return " ".join(words)
+
+
+class Interface(unittest.TestCase):
+    def test_functions(self):
+        for file, names in FUNCTIONS.items():
+            for name, parameters in names.items():
+                function = getattr(import_module("logsapart." + file), name)
+                self.assertEqual("logsapart." + file, function.__module__)
+                self.assertTrue(inspect.isfunction(function), name)
+                self.assertEqual(parameters, written(function), name)
+
+    def test_classes(self):
+        for file, names in CLASSES.items():
+            for name, parameters in names.items():
+                kind = getattr(import_module("logsapart." + file), name)
+                self.assertEqual("logsapart." + file, kind.__module__)
+                self.assertTrue(inspect.isclass(kind), name)
+                if parameters is not None:
+                    self.assertEqual("self " + parameters, written(vars(kind)["__init__"]), name)
+
+    def test_methods(self):
+        for (file, name, method), parameters in METHODS.items():
+            kind = getattr(import_module("logsapart." + file), name)
+            self.assertEqual(("self " + parameters).strip(), written(vars(kind)[method]), (name, method))
+
+
+if __name__ == "__main__":
+    unittest.main()
