@@ -2,6 +2,7 @@
 
 from fractions import Fraction
 from itertools import product
+from math import factorial, prod
 
 from logsapart.errors import BadStory, NoHand
 from logsapart.hands import Hands
@@ -74,6 +75,16 @@ def all_stories(hands, length):
 
 def stories_up_to(hands, length):
     return [story for deeds in range(length + 1) for story in all_stories(hands, deeds)]
+
+
+def counts_of(many, deeds):
+    """All counts of so many deeds."""
+    return [counts for counts in product(range(deeds + 1), repeat=many) if sum(counts) == deeds]
+
+
+def plain_ratio(hands, counts):
+    stories = factorial(sum(counts)) // prod(factorial(count) for count in counts)
+    return Fraction(stories, prod(k ** count for k, count in zip(hands.marks, counts)))
 
 
 def all_logs(hands, entries):

@@ -18,6 +18,25 @@ FUNCTIONS = {
         "hands_text": "hands", "read_hands": "text", "story_text": "hands story", "read_story": "hands text",
         "logs_text": "hands logs", "read_logs": "hands text",
     },
+    "counts": {
+        "story_number": "hands counts", "logs_number": "hands counts", "nth_story": "hands counts number",
+        "story_place": "hands story", "crowded_counts": "hands length",
+    },
+    "court": {
+        "least_failing": "hands * most=400", "court_paper": "hands * most=400", "court_holds": "hands value",
+        "crowd_bound": "hands length", "book_logs": "hands book story", "alike_stories": "hands book story",
+        "twin_stories": "hands book", "crowd_number": "hands book length",
+    },
+    "dials": {
+        "dial_place": "dial last", "who_last": "dial last", "mark_of": "dial last hand", "logs_of": "dial story",
+    },
+    "reading": {
+        "story_of": "dial logs", "is_left": "dial logs", "read_from": "dial last logs", "tail_of": "dial logs",
+    },
+    "digits": {
+        "least_number": "hands", "who_at": "digits place", "step": "digits place hand",
+        "step_back": "digits place mark", "digit_logs": "digits story place=0", "digit_story": "digits place logs",
+    },
 }
 CLASSES = {
     "errors": {
@@ -25,9 +44,14 @@ CLASSES = {
         "Refused": "at", "TooGreat": "most", "NoTelling": "top bottom", "NoHand": "hand",
     },
     "hands": {"Hands": "marks"},
+    "dials": {"Dial": "hands", "DialDesk": "hands"},
+    "digits": {"Digits": "hands number=None"},
 }
 # By file, class and method: the parameters behind the object.
-METHODS = {}
+METHODS = {
+    ("dials", "DialDesk", "act"): "hand",
+    ("dials", "DialDesk", "who"): "",
+}
 
 
 def written(call):

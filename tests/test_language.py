@@ -12,10 +12,11 @@ CALLED = {
     "dict", "isinstance", "any", "all",
 }
 NAMED = CALLED | {"bool", "ValueError", "KeyError"}
-METHODS = {"append", "pop", "split", "join", "items", "values", "index", "reverse"}
+METHODS = {"append", "pop", "split", "join", "values", "index", "count"}
+BUILTINS = set(dir(builtins)) - {"_"}
 NODES = (
     ast.Module, ast.FunctionDef, ast.ClassDef, ast.arguments, ast.arg, ast.Import, ast.ImportFrom, ast.alias, ast.Expr,
-    ast.Assign, ast.AugAssign, ast.Return, ast.Raise, ast.If, ast.For, ast.While, ast.IfExp, ast.Call, ast.Attribute,
+    ast.Assign, ast.AugAssign, ast.Return, ast.Raise, ast.If, ast.For, ast.While, ast.Break, ast.IfExp, ast.Call, ast.Attribute,
     ast.keyword, ast.Name, ast.Constant, ast.Tuple, ast.List, ast.Dict, ast.ListComp, ast.DictComp, ast.comprehension,
     ast.Subscript, ast.Slice, ast.Starred, ast.BinOp, ast.UnaryOp, ast.BoolOp, ast.Compare, ast.Load, ast.Store,
     ast.Add, ast.Sub, ast.Mult, ast.FloorDiv, ast.Mod, ast.USub, ast.Not, ast.And, ast.Or, ast.Eq, ast.NotEq, ast.Lt,
@@ -108,7 +109,7 @@ class Language(unittest.TestCase):
                     bound = node.id
                 else:
                     continue
-                self.assertNotIn(bound, top | set(dir(builtins)) | BARRED, (name, node.lineno))
+                self.assertNotIn(bound, top | BUILTINS | BARRED, (name, node.lineno))
 
     def test_calls(self):
         for name, (_, tree) in files().items():
@@ -119,7 +120,7 @@ class Language(unittest.TestCase):
                     self.assertIn(node.func.id, top | CALLED, (name, node.lineno))
                 elif isinstance(node, ast.Call):
                     self.assertIn(node.func.attr, methods, (name, node.lineno))
-                elif isinstance(node, ast.Name) and node.id in dir(builtins):
+                elif isinstance(node, ast.Name) and node.id in BUILTINS:
                     self.assertIn(node.id, NAMED, (name, node.lineno))
 
     def test_loops_leave_alone_what_they_go_over(self):
@@ -128,7 +129,7 @@ class Language(unittest.TestCase):
             for part in ast.walk(ast.Module(node.body, [])):
                 if isinstance(part, ast.Call) and isinstance(part.func, ast.Attribute) and part.func.attr in METHODS:
                     held = part.func.value
-                    if part.func.attr in ("append", "pop", "reverse") and isinstance(held, ast.Name):
+                    if part.func.attr in ("append", "pop") and isinstance(held, ast.Name):
                         self.assertNotIn(held.id, over, (name, part.lineno))
 
 
