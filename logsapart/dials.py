@@ -1,9 +1,9 @@
 """The dial: last marks add up to a place, and the arc of the place tells who was last."""
 
-from logsapart.basics import as_tuples, fits_bounds, with_item
-from logsapart.errors import Refused, TooGreat
+from logsapart.basics import as_tuples, with_item
+from logsapart.errors import TooGreat
 from logsapart.hands import check_story, common_multiple, need_hand, need_telling
-from logsapart.logs import empty_logs
+from logsapart.logs import empty_logs, need_last
 from logsapart.spans import span_with, spans_of
 
 GREATEST_SIZE = 1000000000
@@ -25,12 +25,6 @@ class Dial:
         return isinstance(other, Dial) and self.hands == other.hands
 
 
-def need_last(dial, last):
-    """Last marks as a tuple."""
-    if not fits_bounds(last, dial.hands.marks):
-        raise Refused(last)
-    return tuple(last)
-
 
 def place_of(dial, last):
     """The place of last marks that are right."""
@@ -45,29 +39,34 @@ def teller(dial, last):
     return span_with(dial.arcs, place_of(dial, last))
 
 
-def turning_mark(dial, last, hand):
-    """The mark of a hand that brings the place into its arc, all being right."""
-    first, behind = dial.arcs[hand]
-    width = behind - first
+def mark_to(dial, last, hand, first):
+    """The mark of a hand that brings the place to one of as many from a first one as a mark turns."""
+    width = dial.size // dial.hands.marks[hand]
     without = place_of(dial, last) - last[hand] * width
     way = (first - without) % dial.size
-    # A mark turns the dial by the width of the arc: so just one of them stops within it.
+    # Each mark turns the dial by so many places: so just one of them stops within these.
     return (way + width - 1) // width % dial.hands.marks[hand]
+
+
+def turning_mark(dial, last, hand):
+    """The mark of a hand that brings the place into its arc, all being right."""
+    first, _ = dial.arcs[hand]
+    return mark_to(dial, last, hand, first)
 
 
 def dial_place(dial, last):
     """The place to which last marks turn the dial."""
-    return place_of(dial, need_last(dial, last))
+    return place_of(dial, need_last(dial.hands, last))
 
 
 def who_last(dial, last):
     """The hand in whose arc the place of last marks is, None if it is in no arc."""
-    return teller(dial, need_last(dial, last))
+    return teller(dial, need_last(dial.hands, last))
 
 
 def mark_of(dial, last, hand):
     """The mark of a hand that acts when these are the last marks."""
-    row = need_last(dial, last)
+    row = need_last(dial.hands, last)
     return turning_mark(dial, row, need_hand(dial.hands, hand))
 
 

@@ -1,20 +1,10 @@
 """Digits: a small place goes with the thing; it and one mark tell the place ahead."""
 
-from logsapart.basics import as_tuples, is_below, is_number
+from logsapart.basics import as_tuples, is_below
 from logsapart.errors import Refused
 from logsapart.hands import check_story, common_multiple, is_telling, need_hand, need_telling, room
 from logsapart.logs import check_logs, empty_logs
-from logsapart.spans import span_with, spans_of
-
-
-def stretch_lengths(hands, number):
-    """By hand a number over its marks, rounded up."""
-    return [(number + marks - 1) // marks for marks in hands.marks]
-
-
-def number_goes(hands, value):
-    """Whether any value is a number of places that goes."""
-    return is_number(value) and value > 0 and sum(stretch_lengths(hands, value)) <= value
+from logsapart.spans import need_place, number_goes, span_with, spans_of, stretch_lengths
 
 
 def least_number(hands):
@@ -25,11 +15,11 @@ def least_number(hands):
         # Nothing may be lost by rounding up, so all marks divide the number.
         return common_multiple(hands)
     number = 1
-    needed = sum(stretch_lengths(hands, number))
+    needed = sum(stretch_lengths(hands.marks, number))
     # What a number needs all greater ones need, too: none between the two goes.
     while needed > number:
         number = needed
-        needed = sum(stretch_lengths(hands, number))
+        needed = sum(stretch_lengths(hands.marks, number))
     return number
 
 
@@ -40,22 +30,15 @@ class Digits:
         need_telling(hands)
         if number is None:
             self.number = least_number(hands)
-        elif number_goes(hands, number):
+        elif number_goes(hands.marks, number):
             self.number = number
         else:
             raise Refused(number)
         self.hands = hands
-        self.stretches = spans_of(stretch_lengths(hands, self.number))
+        self.stretches = spans_of(stretch_lengths(hands.marks, self.number))
 
     def __eq__(self, other):
         return isinstance(other, Digits) and self.hands == other.hands and self.number == other.number
-
-
-def need_place(digits, place):
-    """The place, if any value is one."""
-    if not is_below(place, digits.number):
-        raise Refused(place)
-    return place
 
 
 def place_behind(digits, place, hand):
@@ -76,12 +59,12 @@ def place_ahead(digits, place, hand, mark):
 
 def who_at(digits, place):
     """The hand in whose stretch a place is, None if it is in none."""
-    return span_with(digits.stretches, need_place(digits, place))
+    return span_with(digits.stretches, need_place(digits.number, place))
 
 
 def step(digits, place, hand):
     """(place, mark) behind a deed of a hand."""
-    need_place(digits, place)
+    need_place(digits.number, place)
     return place_behind(digits, place, need_hand(digits.hands, hand))
 
 
@@ -101,7 +84,7 @@ def step_back(digits, place, mark):
 def digit_logs(digits, story, place=0):
     """(place, logs) behind a story that begins at a place."""
     told = check_story(digits.hands, story)
-    at = need_place(digits, place)
+    at = need_place(digits.number, place)
     logs = empty_logs(digits.hands)
     for hand in told:
         at, mark = place_behind(digits, at, hand)
@@ -111,8 +94,14 @@ def digit_logs(digits, story, place=0):
 
 def digit_story(digits, place, logs):
     """(story, place ahead of it): logs read back from a place as far as they go."""
-    at = need_place(digits, place)
-    rows = [list(log) for log in check_logs(digits.hands, logs)]
+    at = need_place(digits.number, place)
+    return read_back(digits, at, check_logs(digits.hands, logs))
+
+
+def read_back(digits, place, logs):
+    """(story, place ahead of it) of logs read back from a place, all being right."""
+    at = place
+    rows = [list(log) for log in logs]
     story = []
     hand = span_with(digits.stretches, at)
     while hand is not None and rows[hand]:

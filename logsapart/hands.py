@@ -1,8 +1,8 @@
 """Hands with their marks, their share, and the stories of who acted."""
 
-from math import gcd, lcm
+from math import lcm
 
-from logsapart.basics import is_below, is_sequence
+from logsapart.basics import is_below, is_sequence, sum_of_parts
 from logsapart.errors import BadHands, BadStory, NoHand, NoTelling, Refused
 
 FEWEST_HANDS = 2
@@ -42,13 +42,7 @@ def wrong_marks(value):
 
 def share(hands):
     """The sum of 1 / k over the hands' numbers k of marks: (top, bottom) in least terms."""
-    top = 0
-    bottom = 1
-    for marks in hands.marks:
-        top = top * marks + bottom
-        bottom = bottom * marks
-    common = gcd(top, bottom)
-    return (top // common, bottom // common)
+    return sum_of_parts([1] * hands.many, hands.marks)
 
 
 def is_telling(hands):
@@ -57,11 +51,16 @@ def is_telling(hands):
     return top <= bottom
 
 
+def check_share(top, bottom):
+    """Nothing, if a share is at most 1."""
+    if top > bottom:
+        raise NoTelling(top, bottom)
+
+
 def need_telling(hands):
     """The hands, if their share is at most 1."""
     top, bottom = share(hands)
-    if top > bottom:
-        raise NoTelling(top, bottom)
+    check_share(top, bottom)
     return hands
 
 
@@ -72,14 +71,26 @@ def need_hand(hands, hand):
     return hand
 
 
-def check_story(hands, value):
-    """Any value as a tuple, if it is a story of these hands."""
+def check_items(value, bound):
+    """Any value as a tuple, if it is a sequence of at most 10,000 numbers below a bound."""
     if not is_sequence(value) or len(value) > LONGEST:
         raise BadStory(-1)
-    for at, hand in enumerate(value):
-        if not is_below(hand, hands.many):
+    for at, item in enumerate(value):
+        if not is_below(item, bound):
             raise BadStory(at)
     return tuple(value)
+
+
+def is_story(hands, value):
+    """Whether any value is a story of these hands."""
+    if not is_sequence(value) or len(value) > LONGEST:
+        return False
+    return all([is_below(hand, hands.many) for hand in value])
+
+
+def check_story(hands, value):
+    """Any value as a tuple, if it is a story of these hands."""
+    return check_items(value, hands.many)
 
 
 def room(hands):

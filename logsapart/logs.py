@@ -32,6 +32,18 @@ def last_marks(hands, logs):
     return tuple([log[-1] if log else 0 for log in check_logs(hands, logs)])
 
 
+def is_last(hands, value):
+    """Whether any value is a row of last marks, one mark of each hand."""
+    return fits_bounds(value, hands.marks)
+
+
+def need_last(hands, last):
+    """Any value as a tuple, if it is a row of last marks."""
+    if not is_last(hands, last):
+        raise Refused(last)
+    return tuple(last)
+
+
 def story_counts(hands, story):
     """By hand how often it acts in a story."""
     counts = [0] * hands.many

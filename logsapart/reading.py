@@ -1,21 +1,42 @@
 """Reading logs back: strike the last entry of whoever the dial tells, and so on."""
 
-from logsapart.dials import need_last, teller
+from logsapart.dials import teller
 from logsapart.errors import Refused
-from logsapart.logs import check_logs
+from logsapart.logs import check_logs, need_last
+
+
+def struck_back(last, logs, tell):
+    """The deeds since these last marks, told one by one by the last marks behind them; None if they are not.
+
+    What tells gives, for last marks, (deed, the hands whose last entries it left), or None.
+    """
+    rows = [[mark, *log] for mark, log in zip(last, logs)]
+    left = sum([len(log) for log in logs])
+    deeds = []
+    while left > 0:
+        told = tell(tuple([row[-1] for row in rows]))
+        if told is None:
+            return None
+        deed, lot = told
+        if not all([len(rows[hand]) > 1 for hand in lot]):
+            return None
+        for hand in lot:
+            rows[hand].pop()
+        left = left - len(lot)
+        deeds.append(deed)
+    return tuple(deeds[::-1])
 
 
 def deeds_since(dial, last, logs):
     """Who acted since these last marks, so that these logs were left; None if no deeds leave them."""
-    rows = [[mark, *log] for mark, log in zip(last, logs)]
-    deeds = []
-    for _ in range(sum([len(log) for log in logs])):
-        hand = teller(dial, [row[-1] for row in rows])
-        if hand is None or len(rows[hand]) == 1:
-            return None
-        rows[hand].pop()
-        deeds.append(hand)
-    return tuple(deeds[::-1])
+    return struck_back(last, logs, lambda row: one_hand(teller(dial, row)))
+
+
+def one_hand(hand):
+    """A hand that was last as what tells gives it, None for nobody."""
+    if hand is None:
+        return None
+    return (hand, (hand,))
 
 
 def whole_story(dial, logs):
@@ -38,7 +59,7 @@ def is_left(dial, logs):
 
 def read_from(dial, last, logs):
     """The hands that acted since a moment with these last marks, told by all entries since."""
-    row = need_last(dial, last)
+    row = need_last(dial.hands, last)
     deeds = deeds_since(dial, row, check_logs(dial.hands, logs))
     if deeds is None:
         raise Refused(logs)

@@ -1,4 +1,7 @@
-"""Spans of places, pairs (first, behind), that lie one behind another from place 0."""
+"""Spans of places, pairs (first, behind), that lie one behind another from place 0, and how long stretches are."""
+
+from logsapart.basics import is_below, is_number
+from logsapart.errors import Refused
 
 
 def spans_of(lengths):
@@ -17,3 +20,20 @@ def span_with(spans, place):
         if first <= place < behind:
             return at
     return None
+
+
+def stretch_lengths(divisors, number):
+    """A number over each of the divisors, rounded up."""
+    return [(number + divisor - 1) // divisor for divisor in divisors]
+
+
+def number_goes(divisors, value):
+    """Whether any value is a number from 1 on with room for its stretches."""
+    return is_number(value) and value > 0 and sum(stretch_lengths(divisors, value)) <= value
+
+
+def need_place(number, place):
+    """The place, if any value is one of so many."""
+    if not is_below(place, number):
+        raise Refused(place)
+    return place

@@ -23,6 +23,11 @@ def any_values():
     ]
 
 
+def not_of_length(many):
+    """Values of all kinds but sequences of so many items."""
+    return [value for value in any_values() if not isinstance(value, (list, tuple)) or len(value) != many]
+
+
 def raised(call, *args, **named):
     """The error that a call raises, None if it raises none."""
     try:

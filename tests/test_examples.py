@@ -62,10 +62,10 @@ DIALS = """
 (None, 1, 1, 1, 1, (1, 1))
 """
 
-# Of the last line of this example that part alone which is about the module digits.
 DIGITS = """
 >>> from logsapart.digits import Digits, digit_logs, digit_story, least_number, step, step_back, who_at
 >>> from logsapart.hands import Hands
+>>> from logsapart.undoing import UndoDesk, fitting_places
 >>> least_number(Hands((2, 3, 6))), least_number(Hands((3, 3))), least_number(Hands((2, 2, 3)))
 (6, 2, None)
 >>> digits = Digits(Hands((2, 3, 6)))
@@ -73,8 +73,48 @@ DIGITS = """
 (((0, 3), (3, 5), (5, 6)), (4, 2), 1, (1, 5))
 >>> digit_logs(digits, (0, 2, 1, 1, 0)), digit_story(digits, 2, ((0, 0), (2, 1), (0,)))
 ((2, ((0, 0), (2, 1), (0,))), ((0, 2, 1, 1, 0), 0))
->>> Digits(Hands((3, 3)), 4).stretches
-((0, 2), (2, 4))
+>>> fitting_places(digits, ((0,), (0,), ())), Digits(Hands((3, 3)), 4).stretches
+((3,), ((0, 2), (2, 4)))
+>>> desk = UndoDesk(Hands((2, 2)))
+>>> desk.act(1), desk.act(0), desk.who_undoes(), desk.undo(1), desk.undo(0), desk.who_undoes(), desk.place
+(0, 1, 0, 0, 1, None, 0)
+"""
+
+NUMBERS_AND_RIDERS = """
+>>> from logsapart.hands import Hands
+>>> from logsapart.rates import greatest_number, grow_logs, grow_step, grow_story, needed_numbers, resting_number, swallow_length
+>>> from logsapart.riders import Carrier, carried_last, carry_logs, carry_story, most_riders, riders_share
+>>> crowd = Hands([2, 2, 3])
+>>> grow_logs(crowd, (0, 1, 2, 0)), grow_story(crowd, ((0, 1), (0,), (0,)), 8), grow_step(crowd, 7, 0)
+((8, ((0, 1), (0,), (0,))), (0, (0, 1, 2, 0)), (8, 1))
+>>> greatest_number(crowd, 3), needed_numbers(crowd, 9), needed_numbers(Hands([2, 2]), 1, riders=(1, 3))
+(22, 2, 2)
+>>> few = Hands([2, 3])
+>>> resting_number(few), swallow_length(few, 1000), grow_step(few, 1000, 1), grow_step(few, 18, 1)
+(18, 26, (834, 1), (18, 0))
+>>> carrier = Carrier(Hands([2, 4]), (1, 2))
+>>> logs = carry_logs(carrier, ((1, 1), (0, 0), (1, 0)))
+>>> logs, carry_story(carrier, logs), carried_last(carrier, (1, 3)), carrier.arcs, riders_share(few, (1, 1)), most_riders(Hands([2, 4]), (1, 1), 1)
+(((1,), (3, 0)), ((1, 1), (0, 0), (1, 0)), (0, 0), ((0, 2), (2, 4)), (5, 6), 2)
+"""
+
+TABLES_AND_MARKERS = """
+>>> from logsapart.hands import Hands
+>>> from logsapart.markers import Marker, clash_paper, is_reversible, marker_logs, marker_story, table_marker, two_stories
+>>> from logsapart.tables import Table, bad_line, dial_table, table_logs, table_paper, table_story, table_who
+>>> pair = Hands([2, 2])
+>>> dial_table(pair).tells, table_who(dial_table(pair), (1, 0)), bad_line(Table(pair, (0, 1, 1, None)))
+((0, 1, 1, 0), 1, (0, (0, 1)))
+>>> table_logs(dial_table(pair), (0, 0, 1)), table_story(dial_table(pair), ((0, 0), (1,)))
+(((0, 0), (1,)), (0, 0, 1))
+>>> table_paper(pair, [((0, 0), None)])[0], table_paper(Hands([2, 3]), [((0, 0), None)])[0]
+('lines', 'table')
+>>> marker = Marker(pair, [((0, 0), (0, 1)), ((1, 0), (1, 1))])
+>>> is_reversible(marker), marker_logs(marker, (1, 0, 0)), marker_story(marker, ((1, 0), (0,)), 0)
+(True, (((1, 0), (0,)), 0), (1, 0, 0))
+>>> plain = Marker(pair, [((0, 0), (0, 0))])
+>>> clash_paper(plain), two_stories(plain, 4), two_stories(table_marker(dial_table(pair)), 4)
+(('clash', (0, 0), (0, 1)), ('stories', (0, 1), (1, 0)), None)
 """
 
 
@@ -101,6 +141,12 @@ class Examples(unittest.TestCase):
 
     def test_digits(self):
         self.assertEqual("", failures(DIGITS))
+
+    def test_numbers_and_riders(self):
+        self.assertEqual("", failures(NUMBERS_AND_RIDERS))
+
+    def test_tables_and_markers(self):
+        self.assertEqual("", failures(TABLES_AND_MARKERS))
 
 
 if __name__ == "__main__":

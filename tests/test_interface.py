@@ -37,6 +37,26 @@ FUNCTIONS = {
         "least_number": "hands", "who_at": "digits place", "step": "digits place hand",
         "step_back": "digits place mark", "digit_logs": "digits story place=0", "digit_story": "digits place logs",
     },
+    "undoing": {"fitting_places": "digits logs place=0"},
+    "rates": {
+        "grow_step": "hands number hand", "grow_back": "hands number mark", "grow_logs": "hands story * number=0",
+        "grow_story": "hands logs number", "greatest_number": "hands length * number=0",
+        "needed_numbers": "hands length * riders=None", "resting_number": "hands", "swallow_length": "hands number",
+    },
+    "riders": {
+        "riders_share": "hands riders", "carry_mark": "carrier last hand thing", "carried_last": "carrier last",
+        "carry_logs": "carrier story", "carry_story": "carrier logs", "most_riders": "hands riders hand",
+    },
+    "tables": {
+        "all_lasts": "hands", "table_who": "table last", "bad_line": "table", "is_good": "table", "dial_table": "hands",
+        "table_mark": "table last hand", "table_logs": "table story", "table_story": "table logs",
+        "table_paper": "hands told", "table_holds": "hands told value",
+    },
+    "markers": {
+        "marker_logs": "marker story", "clash_paper": "marker", "is_reversible": "marker",
+        "marker_story": "marker logs standing", "table_marker": "table", "two_stories": "marker length * most=20000",
+        "stories_hold": "marker value",
+    },
 }
 CLASSES = {
     "errors": {
@@ -46,11 +66,18 @@ CLASSES = {
     "hands": {"Hands": "marks"},
     "dials": {"Dial": "hands", "DialDesk": "hands"},
     "digits": {"Digits": "hands number=None"},
+    "undoing": {"UndoDesk": "hands number=None"},
+    "riders": {"Carrier": "hands riders"},
+    "tables": {"Table": "hands tells"},
+    "markers": {"Marker": "hands rows"},
 }
 # By file, class and method: the parameters behind the object.
 METHODS = {
     ("dials", "DialDesk", "act"): "hand",
     ("dials", "DialDesk", "who"): "",
+    ("undoing", "UndoDesk", "act"): "hand",
+    ("undoing", "UndoDesk", "who_undoes"): "",
+    ("undoing", "UndoDesk", "undo"): "mark",
 }
 
 
