@@ -16,7 +16,8 @@ class UndoDesk:
 
     def act(self, hand):
         """Hears a deed of a hand; returns the mark that the hand keeps."""
-        self.place, mark = step(self.digits, self.place, hand)
+        behind, mark = step(self.digits, self.place, hand)
+        self.place = behind
         self.deeds += 1
         return mark
 
@@ -30,7 +31,8 @@ class UndoDesk:
         """Undoes the last deed by its mark; returns its hand."""
         if self.deeds == 0:
             raise Refused(mark)
-        hand, self.place = step_back(self.digits, self.place, mark)
+        hand, ahead = step_back(self.digits, self.place, mark)
+        self.place = ahead
         self.deeds -= 1
         return hand
 

@@ -117,6 +117,37 @@ TABLES_AND_MARKERS = """
 (('clash', (0, 0), (0, 1)), ('stories', (0, 1), (1, 0)), None)
 """
 
+SEVERAL_HANDS = """
+>>> from logsapart.flats import Flats, flat_lacking, flats_logs, flats_story
+>>> from logsapart.hands import Hands
+>>> from logsapart.kinds import Kinds, full_lengths, kinds_share, stories_leaving
+>>> from logsapart.meets import Tally, kinds_number, meet, unmeet
+>>> kinds = Kinds(Hands([2, 3, 1]), [[0], [0, 1], [1]])
+>>> kinds.sizes, kinds_share(kinds), stories_leaving(kinds, (1, 1, 0))
+((2, 6, 3), (1, 1), 3)
+>>> full_lengths(Kinds(Hands([2, 2]), [[0], [0, 1], [1]]), most=100)
+(3, 4)
+>>> kinds_number(kinds, most=100), meet(Tally(kinds, 6), 5, 1), unmeet(Tally(kinds, 6), 3, (1, 2))
+(6, (3, (1, 2)), (1, 5))
+>>> flats = Flats(Kinds(Hands([2, 2]), [[0], [1]]), (0, 1, 1, 0))
+>>> flats_logs(flats, (0, 0, 1)), flats_story(flats, ((0, 0), (1,))), flat_lacking(flats.kinds, (0, 1, 1, 1))
+(((0, 0), (1,)), (0, 0, 1), (0, (0, 1)))
+"""
+
+# Of this example those parts alone that are about the module protocols; below it what they come to.
+PROTOCOLS = """
+>>> from logsapart.hands import Hands
+>>> from logsapart.protocols import Turns
+>>> box = Turns(Hands((2, 3)), 2, [(0, 0, 1), (0, 1, 1), (1, 1, 0), (1, 1, 0)])
+>>> open_end = Turns(Hands((1, 1, 1)), 2, [(0, 0, 0), (0, 2, 1), (1, 1, 1)])
+>>> one_state = Turns(Hands((1, 1)), 1, [(0, 0, 0), (0, 1, 0)])
+>>> [(turns.states, turns.start, turns.reached) for turns in (box, open_end, one_state)]
+[(2, 0, (0, 1)), (2, 0, (0, 1)), (1, 0, (0,))]
+>>> from logsapart.protocols import check_run, deeds_from, run_story
+>>> check_run(box, (0, 2, 1, 3)), run_story(box, (0, 2, 1, 3)), deeds_from(open_end, 0)
+((0, 2, 1, 3), ((0, 1, 1, 1), 0), (0, 1))
+"""
+
 
 def failures(text):
     """What differs from the text when its lines are run."""
@@ -147,6 +178,12 @@ class Examples(unittest.TestCase):
 
     def test_tables_and_markers(self):
         self.assertEqual("", failures(TABLES_AND_MARKERS))
+
+    def test_several_hands(self):
+        self.assertEqual("", failures(SEVERAL_HANDS))
+
+    def test_protocols(self):
+        self.assertEqual("", failures(PROTOCOLS))
 
 
 if __name__ == "__main__":

@@ -57,6 +57,21 @@ FUNCTIONS = {
         "marker_story": "marker logs standing", "table_marker": "table", "two_stories": "marker length * most=20000",
         "stories_hold": "marker value",
     },
+    "kinds": {
+        "kinds_share": "kinds", "is_served": "kinds", "need_served": "kinds", "alike_marks": "kinds",
+        "check_meetings": "kinds value", "kinds_counts": "kinds story", "stories_leaving": "kinds lengths",
+        "logs_many": "kinds lengths", "full_lengths": "kinds * most", "kinds_text": "kinds", "read_kinds": "hands text",
+    },
+    "flats": {
+        "flat_of": "kinds last kind", "flat_lacking": "kinds table", "kinds_table": "kinds", "who_met": "flats last",
+        "lasts_behind": "flats last kind", "flats_logs": "flats story", "flats_story": "flats logs",
+        "flats_tail": "flats logs", "torn_ends": "flats logs",
+    },
+    "meets": {
+        "kinds_number": "kinds * most", "kind_at": "tally place", "meet": "tally place kind",
+        "unmeet": "tally place marks", "tally_logs": "tally story place=0", "tally_story": "tally place logs",
+    },
+    "protocols": {"deeds_from": "protocol state", "check_run": "protocol value", "run_story": "protocol run"},
 }
 CLASSES = {
     "errors": {
@@ -70,6 +85,10 @@ CLASSES = {
     "riders": {"Carrier": "hands riders"},
     "tables": {"Table": "hands tells"},
     "markers": {"Marker": "hands rows"},
+    "kinds": {"Kinds": "hands lots"},
+    "flats": {"Flats": "kinds table=None"},
+    "meets": {"Tally": "kinds number"},
+    "protocols": {"Turns": "hands states moves start=0"},
 }
 # By file, class and method: the parameters behind the object.
 METHODS = {

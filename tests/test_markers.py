@@ -306,6 +306,9 @@ class Holding(unittest.TestCase):
         self.assertIs(False, stories_hold(PLAIN, ("lines", (0, 1), (1, 0))))
         long = (0, 1) * 200
         self.assertIs(True, stories_hold(PLAIN, ("stories", long, long[::-1])))
+        long = (0, 1) * 5000
+        self.assertIs(True, stories_hold(PLAIN, ("stories", long, long[::-1])))
+        self.assertIs(False, stories_hold(PLAIN, ("stories", (*long, 0), (0, *long[::-1]))))
 
 
 if __name__ == "__main__":
