@@ -25,7 +25,6 @@ class Dial:
         return isinstance(other, Dial) and self.hands == other.hands
 
 
-
 def place_of(dial, last):
     """The place of last marks that are right."""
     place = 0
@@ -39,13 +38,19 @@ def teller(dial, last):
     return span_with(dial.arcs, place_of(dial, last))
 
 
+def mark_over(size, marks, without, first):
+    """Of so many marks the one that turns a ring of a size from a place to one of an arc from a first one."""
+    width = size // marks
+    way = (first - without) % size
+    # Each mark turns the ring by so many places: so just one of them stops within as many.
+    return (way + width - 1) // width % marks
+
+
 def mark_to(dial, last, hand, first):
     """The mark of a hand that brings the place to one of as many from a first one as a mark turns."""
-    width = dial.size // dial.hands.marks[hand]
-    without = place_of(dial, last) - last[hand] * width
-    way = (first - without) % dial.size
-    # Each mark turns the dial by so many places: so just one of them stops within these.
-    return (way + width - 1) // width % dial.hands.marks[hand]
+    marks = dial.hands.marks[hand]
+    without = place_of(dial, last) - last[hand] * (dial.size // marks)
+    return mark_over(dial.size, marks, without, first)
 
 
 def turning_mark(dial, last, hand):

@@ -30,9 +30,9 @@ def is_marks_number(value):
     return is_below(value, MOST_MARKS + 1) and value > 0
 
 
-def wrong_marks(value):
-    """None if any value is what Hands takes, else what BadHands tells of it."""
-    if not is_sequence(value) or len(value) < FEWEST_HANDS or len(value) > MOST_HANDS:
+def wrong_marks(value, fewest=FEWEST_HANDS, most=MOST_HANDS):
+    """None if any value is what Hands takes, or a crowd of so many, else what BadHands tells of it."""
+    if not is_sequence(value) or len(value) < fewest or len(value) > most:
         return -1
     for at, marks in enumerate(value):
         if not is_marks_number(marks):

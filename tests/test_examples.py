@@ -134,18 +134,89 @@ SEVERAL_HANDS = """
 (((0, 0), (1,)), (0, 0, 1), (0, (0, 1)))
 """
 
-# Of this example those parts alone that are about the module protocols; below it what they come to.
 PROTOCOLS = """
 >>> from logsapart.hands import Hands
+>>> from logsapart.knots import knot_sign, least_alike, least_for_hand, needed_room
+>>> from logsapart.plans import Plan, fitting_standings, move_back, protocol_holds, protocol_paper, run_back, run_logs
 >>> from logsapart.protocols import Turns
 >>> box = Turns(Hands((2, 3)), 2, [(0, 0, 1), (0, 1, 1), (1, 1, 0), (1, 1, 0)])
+>>> protocol_paper(box), knot_sign(box, (0, 1))
+(('numbers', (2, 2)), -1)
+>>> plan = Plan(box)
+>>> plan.stretches, run_logs(plan, (0, 2, 1, 3)), run_back(plan, 0, 1, ((0,), (0, 0, 0)))
+((((0, 0), (0, 2)), ((0, 1), (1, 2))), (0, 1, ((0,), (0, 0, 0))), ((0, 2, 1, 3), 0, 0))
+>>> move_back(plan, 0, 1, 0), fitting_standings(plan, ((0,), (0, 0, 0))), least_alike(box), least_for_hand(box, 0), least_for_hand(box, 1)
+((3, 1, 1), ((0, 1),), 2, 1, 2)
 >>> open_end = Turns(Hands((1, 1, 1)), 2, [(0, 0, 0), (0, 2, 1), (1, 1, 1)])
->>> one_state = Turns(Hands((1, 1)), 1, [(0, 0, 0), (0, 1, 0)])
->>> [(turns.states, turns.start, turns.reached) for turns in (box, open_end, one_state)]
-[(2, 0, (0, 1)), (2, 0, (0, 1)), (1, 0, (0,))]
->>> from logsapart.protocols import check_run, deeds_from, run_story
->>> check_run(box, (0, 2, 1, 3)), run_story(box, (0, 2, 1, 3)), deeds_from(open_end, 0)
-((0, 2, 1, 3), ((0, 1, 1, 1), 0), (0, 1))
+>>> protocol_paper(open_end)[0], protocol_holds(open_end, ("weights", (0, 1))), knot_sign(open_end, (1,))
+('weights', True, 0)
+>>> needed_room(Turns(Hands((1, 1)), 1, [(0, 0, 0), (0, 1, 0)]), 4)
+(6, 0, (2, 2))
+"""
+
+FEWEST_LOGS_AND_CROWDS = """
+>>> from logsapart.hands import Hands
+>>> from logsapart.weights import least_marks, log_number, weight_bounds
+>>> least_marks((3, 1, 2)), log_number(Hands([2, 6, 3]), (3, 1, 2)), weight_bounds((3, 1, 2))
+((2, 6, 3), 432, (46656, 108))
+>>> from logsapart.tight import is_tight, tight_marks
+>>> tight_marks(3), is_tight(Hands([2, 5, 7, 7])), is_tight(Hands([2, 3, 7]))
+(((2, 3, 6), (2, 4, 4), (3, 3, 3)), True, False)
+>>> from logsapart.epochs import Crowd, Roll, fewest_epochs, full_runs
+>>> from logsapart.journals import cut_pages, journal_of, resumed, with_entry
+>>> crowd = Crowd([2, 3, 6, 2])
+>>> roll = Roll(crowd)
+>>> [roll.act(guest) for guest in (0, 1, 3, 1, 3, 2)]
+[(0, 0, 0), (0, 1, 2), (1, 0, 0), (1, 1, 2), (1, 0, 1), (1, 2, 4)]
+>>> roll.there, roll.last, roll.who(), fewest_epochs(crowd, (0, 1, 3, 1, 3, 2)), full_runs(crowd, (0, 1, 3, 1, 3, 2))
+((3, 1, 2), (1, 2, 4), 2, (0, 2), ((0, 3),))
+>>> logs = (((0, 0, (0,)),), ((0, 1, (2,)), (1, 1, (2,))), ((1, 2, (4,)),), ((1, 0, (0, 1)),))
+>>> journal_of(crowd, logs), journal_of(crowd, cut_pages(crowd, logs, 1))
+((0, ((0, 1), (3, 1, 3, 2))), (1, ((3, 1, 3, 2),)))
+>>> resumed(crowd, logs).act(1), with_entry(logs[1], 1, 1, 0)
+((1, 1, 1), ((0, 1, (2,)), (1, 1, (2, 0))))
+"""
+
+LOSSES = """
+>>> from logsapart.dials import Dial, logs_of
+>>> from logsapart.hands import Hands
+>>> from logsapart.losses import fit_number, fit_numbers, fit_place, fit_story, noticed_tails
+>>> dial = Dial(Hands([2, 2]))
+>>> logs_of(dial, (0, 1, 0, 0))
+((0, 1, 1), (1,))
+>>> fit_number(dial, ((0,), (1,)), (2, 0)), fit_story(dial, ((0,), (1,)), (2, 0), 1)
+(3, (0, 0, 1, 0))
+>>> fit_place(dial, ((0,), (1,)), (2, 0), (0, 1, 0, 0)), fit_numbers(dial, ((0,), (1,)), 0, 2)
+(2, (1, 2, 3))
+>>> noticed_tails(dial, ((0, 1, 1), (1,)), 0), noticed_tails(dial, ((0, 1, 1), (1,)), 1)
+((), (1,))
+"""
+
+STORES = """
+>>> from logsapart.desk import Desk
+>>> from logsapart.hands import Hands
+>>> from logsapart.since import Witness, is_ahead, is_rest, rest_order, since_logs, sure_length
+>>> from logsapart.store import Store, deeds_of, mended_sheet
+>>> store = Store(Hands((2, 3, 6)), (0, 0))
+>>> store.put(1, 0, 7), store.put(2, 0, 9), store.put(0, 1, 4), store.undo_last(), store.undo_last()
+(2, 1, 1, 0, 2)
+>>> store.sheet()
+((7, 0), ((), ((2, 0, 0, 7),), ()), (((0, 1, 0, 4),), (), ((5, 0, 7, 9),)))
+>>> store.who_undoes(), store.who_redoes(), deeds_of(store.hands, store.sheet())
+(1, 2, ((0, 0), ((1, 0, 7),), ((2, 0, 9), (0, 1, 4))))
+>>> mended_sheet(store.hands, ((9, 0), store.done, store.undone)) == store.sheet(), store.redo_next(), store.cells
+(True, 2, (9, 0))
+>>> hands = Hands((4, 4, 4))
+>>> since_logs(hands, (0, 1, 0, 2, 1)), rest_order(hands, ((0, 1), (1,), ())), sure_length(hands, ((0, 1), (1,), ()))
+(((0, 1), (1, 3), (3,)), (0, 1, 0), 2)
+>>> is_ahead(hands, ((0, 1), (1,), ()), (1, 0), (0, 1)), is_rest(hands, ((0,), (0,), ()))
+(True, False)
+>>> witness = Witness(Hands((2, 2)))
+>>> witness.act(1), witness.act(0), witness.act(0), witness.since
+(0, 1, 0, ((), (0,)))
+>>> desk = Desk("hands 2 2\\ncells 0 5")
+>>> [desk.say(line) for line in ("put 1 0 3", "put 0 0 4", "undo", "anew", "who", "deeds", "left", "put 2 0 1", "cells")]
+['1', '1', '0', 'ok', '1 0', '1 0 3', '0 0 4', 'refused', '3 5']
 """
 
 
@@ -184,6 +255,15 @@ class Examples(unittest.TestCase):
 
     def test_protocols(self):
         self.assertEqual("", failures(PROTOCOLS))
+
+    def test_fewest_logs_and_crowds(self):
+        self.assertEqual("", failures(FEWEST_LOGS_AND_CROWDS))
+
+    def test_losses(self):
+        self.assertEqual("", failures(LOSSES))
+
+    def test_stores(self):
+        self.assertEqual("", failures(STORES))
 
 
 if __name__ == "__main__":

@@ -72,6 +72,37 @@ FUNCTIONS = {
         "unmeet": "tally place marks", "tally_logs": "tally story place=0", "tally_story": "tally place logs",
     },
     "protocols": {"deeds_from": "protocol state", "check_run": "protocol value", "run_story": "protocol run"},
+    "knots": {
+        "protocol_knots": "protocol", "knot_sign": "protocol knot", "numbers_exist": "protocol",
+        "least_alike": "protocol", "least_for_hand": "protocol hand", "needed_room": "protocol length * most=20000",
+    },
+    "plans": {
+        "protocol_paper": "protocol * most=2000", "protocol_holds": "protocol value",
+        "move_on": "plan state number deed", "hand_at": "plan state number", "move_back": "plan state number mark",
+        "run_logs": "plan run number=0", "run_back": "plan state number logs",
+        "fitting_standings": "plan logs number=0",
+    },
+    "weights": {
+        "check_numbers": "numbers", "log_number": "hands numbers", "weight_bounds": "numbers", "least_marks": "numbers",
+    },
+    "tight": {"is_tight": "hands", "tight_marks": "many"},
+    "epochs": {
+        "need_guest": "crowd guest", "check_guests": "crowd story", "fewest_epochs": "crowd story",
+        "full_runs": "crowd story", "runs_hold": "crowd story value",
+    },
+    "journals": {
+        "check_pages": "crowd logs", "with_entry": "log epoch rank mark", "journal_of": "crowd logs",
+        "cut_pages": "crowd logs epoch", "resumed": "crowd logs",
+    },
+    "losses": {
+        "fit_number": "dial left lost", "fit_story": "dial left lost number", "fit_place": "dial left lost story",
+        "fit_numbers": "dial left hand most", "noticed_tails": "dial logs hand",
+    },
+    "store": {"deeds_of": "hands sheet", "store_of": "hands sheet", "mended_sheet": "hands sheet"},
+    "since": {
+        "since_logs": "hands story", "is_rest": "hands logs", "rest_order": "hands logs",
+        "sure_length": "hands logs", "is_ahead": "hands logs one other",
+    },
 }
 CLASSES = {
     "errors": {
@@ -89,6 +120,11 @@ CLASSES = {
     "flats": {"Flats": "kinds table=None"},
     "meets": {"Tally": "kinds number"},
     "protocols": {"Turns": "hands states moves start=0"},
+    "plans": {"Plan": "protocol numbers=None", "PlanDesk": "plan"},
+    "epochs": {"Crowd": "marks", "Roll": "crowd epoch=0"},
+    "store": {"Store": "hands cells"},
+    "since": {"Witness": "hands"},
+    "desk": {"Desk": "text"},
 }
 # By file, class and method: the parameters behind the object.
 METHODS = {
@@ -97,6 +133,19 @@ METHODS = {
     ("undoing", "UndoDesk", "act"): "hand",
     ("undoing", "UndoDesk", "who_undoes"): "",
     ("undoing", "UndoDesk", "undo"): "mark",
+    ("plans", "PlanDesk", "act"): "deed",
+    ("plans", "PlanDesk", "who_undoes"): "",
+    ("plans", "PlanDesk", "undo"): "mark",
+    ("epochs", "Roll", "act"): "guest",
+    ("epochs", "Roll", "who"): "",
+    ("store", "Store", "put"): "hand cell number",
+    ("store", "Store", "who_undoes"): "",
+    ("store", "Store", "who_redoes"): "",
+    ("store", "Store", "undo_last"): "",
+    ("store", "Store", "redo_next"): "",
+    ("store", "Store", "sheet"): "",
+    ("since", "Witness", "act"): "hand",
+    ("desk", "Desk", "say"): "line",
 }
 
 

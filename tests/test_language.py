@@ -3,16 +3,17 @@
 import ast
 import builtins
 import unittest
+from functools import lru_cache
 from pathlib import Path
 
 PACKAGE = Path(__file__).resolve().parent.parent / "logsapart"
 LIBRARY = {"math": {"gcd", "lcm", "comb"}}
 CALLED = {
     "len", "range", "enumerate", "zip", "min", "max", "sum", "abs", "sorted", "reversed", "int", "str", "list", "tuple",
-    "dict", "isinstance", "any", "all",
+    "dict", "isinstance", "any", "all", "set",
 }
 NAMED = CALLED | {"bool", "ValueError", "KeyError"}
-METHODS = {"append", "extend", "pop", "split", "join", "values", "index", "count", "get", "setdefault"}
+METHODS = {"append", "extend", "pop", "split", "join", "values", "items", "index", "count", "get", "setdefault", "bit_length"}
 BUILTINS = set(dir(builtins)) - {"_"}
 NODES = (
     ast.Module, ast.FunctionDef, ast.ClassDef, ast.arguments, ast.arg, ast.Import, ast.ImportFrom, ast.alias, ast.Expr,
@@ -25,6 +26,7 @@ NODES = (
 BARRED = {"register", "mro", "elements", "open", "input", "law", "type", "typing", "enum", "Generic", "Protocol"}
 
 
+@lru_cache(None)
 def files():
     return {path.stem: (path.read_text("ascii"), ast.parse(path.read_text("ascii"))) for path in PACKAGE.glob("*.py")}
 
@@ -42,6 +44,12 @@ def defined(tree):
 
 def imported(tree):
     return {alias.name: node.module for node in tree.body if isinstance(node, ast.ImportFrom) for alias in node.names}
+
+
+def methods_of_all():
+    """The methods that the package's own classes have."""
+    kinds = [node for _, tree in files().values() for node in tree.body if isinstance(node, ast.ClassDef)]
+    return {part.name for kind in kinds for part in kind.body if isinstance(part, ast.FunctionDef)}
 
 
 def nodes(kind):
@@ -114,7 +122,7 @@ class Language(unittest.TestCase):
     def test_calls(self):
         for name, (_, tree) in files().items():
             top = defined(tree) | set(imported(tree))
-            methods = METHODS | {node.name for node in ast.walk(tree) if isinstance(node, ast.FunctionDef)}
+            methods = METHODS | methods_of_all()
             # A function may be passed and called; no parameter has the name of a builtin (above).
             top = top | {node.arg for node in ast.walk(tree) if isinstance(node, ast.arg)}
             for node in ast.walk(tree):
@@ -124,6 +132,28 @@ class Language(unittest.TestCase):
                     self.assertIn(node.func.attr, methods, (name, node.lineno))
                 elif isinstance(node, ast.Name) and node.id in BUILTINS:
                     self.assertIn(node.id, NAMED, (name, node.lineno))
+
+    def test_sets_are_only_sorted(self):
+        for name, node in nodes(ast.Call):
+            inner = [part for part in node.args if isinstance(part, ast.Call) and isinstance(part.func, ast.Name)]
+            for part in inner:
+                if part.func.id == "set":
+                    self.assertEqual("sorted", getattr(node.func, "id", None), (name, node.lineno))
+        called = sum(isinstance(node.func, ast.Name) and node.func.id == "set" for _, node in nodes(ast.Call))
+        inside = sum(
+            isinstance(part, ast.Call) and isinstance(part.func, ast.Name) and part.func.id == "set"
+            for _, node in nodes(ast.Call) for part in node.args
+        )
+        self.assertEqual(called, inside)
+
+    def test_classes_and_names(self):
+        for name, node in nodes(ast.ClassDef):
+            told = [part.name for part in node.body if isinstance(part, ast.FunctionDef)]
+            self.assertEqual(len(told), len(set(told)), (name, node.name))
+            stored = {
+                part.attr for part in ast.walk(node) if isinstance(part, ast.Attribute) and isinstance(part.ctx, ast.Store)
+            }
+            self.assertEqual(set(), stored & set(told), (name, node.name))
 
     def test_loops_leave_alone_what_they_go_over(self):
         for name, node in nodes(ast.For):
