@@ -150,10 +150,12 @@ class Fitting(Raising, unittest.TestCase):
         self.assertEqual(1, fit_place(dial=PAIR, left=left, lost=[2, 0], story=[0, 0, 1, 0]))
 
     def check_far(self, marks, length, lost, seed):
-        """A long story's logs: its number leads back to it, and numbers go up with the rows of lost marks."""
         source = random.Random(seed)
+        self.check_long(marks, tuple(source.randrange(len(marks)) for _ in range(length)), lost)
+
+    def check_long(self, marks, story, lost):
+        """A long story's logs: its number leads back to it, and numbers go up with the rows of lost marks."""
         dial = Dial(Hands(marks))
-        story = tuple(source.randrange(len(marks)) for _ in range(length))
         logs = logs_of(dial, story)
         left = tuple(log[:len(log) - gone] for log, gone in zip(logs, lost))
         number = fit_number(dial, left, lost)
@@ -176,6 +178,15 @@ class Fitting(Raising, unittest.TestCase):
         self.check_far((4, 4, 4, 4), 112, (3, 3, 3, 3), 7)
         self.check_far((8,) * 8, 206, (2, 2, 2, 0, 0, 0, 0, 0), 8)
         self.check_far((2, 3, 60, 60), 112, (0, 0, 6, 6), 9)
+
+
+    def test_hands_that_act_many_times_in_a_row(self):
+        # From the begin on there are far too many ways, though few from the end back; or the other way round.
+        for marks, lost in (((8,) * 8, (4, 4, 4, 0, 0, 0, 0, 0)), ((60,) * 8, (6, 6, 0, 0, 0, 0, 0, 0)), ((2, 3, 6), (4, 4, 4))):
+            story = tuple(at * len(marks) // 112 for at in range(112))
+            self.check_long(marks, story, lost)
+            self.check_long(marks, story[::-1], lost)
+            self.check_long(marks, tuple(at % len(marks) for at in range(112)), lost)
 
 
 class Numbers(Raising, unittest.TestCase):
