@@ -4,7 +4,6 @@ from math import gcd
 
 from logsapart.basics import with_item
 from logsapart.dials import place_of
-from logsapart.spans import span_with
 
 
 class Gaps:
@@ -34,33 +33,27 @@ def known_mark(gaps, hand, count):
     return gaps.left[hand][count - 1]
 
 
-def place_with(gaps, place, counts, hand):
-    """The place behind a deed more of a hand, as a list; an empty one if that is not the next entry left."""
-    width = gaps.dial.size // gaps.dial.hands.marks[hand]
-    first, _ = gaps.dial.arcs[hand]
-    # Whatever the hand's mark was, this is the only place of its arc to which its marks turn the dial.
-    behind = first + (place - first) % width
-    count = counts[hand]
-    if count < len(gaps.left[hand]):
-        turn = (gaps.left[hand][count] - known_mark(gaps, hand, count)) * width
-        if (place + turn - behind) % gaps.dial.size != 0:
-            return []
-    return [behind]
-
-
 def with_deed(counts, hand):
     """The counts behind a deed more of a hand."""
     return with_item(counts, hand, counts[hand] + 1)
 
 
-def places_behind(gaps, counts, place):
-    """(counts, place, hand) behind each deed more that may be done."""
-    behind = []
-    for hand, whole in enumerate(gaps.whole):
-        if counts[hand] < whole:
-            more = with_deed(counts, hand)
-            behind.extend([(more, after, hand) for after in place_with(gaps, place, counts, hand)])
-    return behind
+def hands_left(gaps, counts):
+    """The hands that have entries more than at some counts."""
+    return [hand for hand, whole in enumerate(gaps.whole) if counts[hand] < whole]
+
+
+def steps_on(gaps, counts, hand, places):
+    """(place, place behind) for a deed more of a hand, from those of some places from which it leaves its entry."""
+    size = gaps.dial.size
+    width = size // gaps.dial.hands.marks[hand]
+    first, _ = gaps.dial.arcs[hand]
+    count = counts[hand]
+    if count >= len(gaps.left[hand]):
+        # Whatever the hand's mark was, this is the only place of its arc to which its marks turn the dial.
+        return [(place, first + (place - first) % width) for place in places]
+    turn = (gaps.left[hand][count] - known_mark(gaps, hand, count)) * width
+    return [(place, (place + turn) % size) for place in places if (place + turn - first) % size < width]
 
 
 def struck(counts, hand):
@@ -84,35 +77,38 @@ def free_places(gaps, counts):
     return (place, step)
 
 
-def places_ahead(gaps, counts, place):
-    """(counts, place) ahead of the last deed, in all ways, if it led here."""
-    hand = span_with(gaps.dial.arcs, place)
-    if hand is None or counts[hand] == 0:
-        return []
-    fewer = struck(counts, hand)
+def steps_back(gaps, counts, hand, places):
+    """(place, place ahead) for the last deed, in all ways, if it was a hand's and led to one of some places."""
+    size = gaps.dial.size
     marks = gaps.dial.hands.marks[hand]
-    width = gaps.dial.size // marks
+    width = size // marks
+    first, behind = gaps.dial.arcs[hand]
+    told = [place for place in places if first <= place < behind]
+    if not told:
+        return []
     if counts[hand] <= len(gaps.left[hand]):
-        turn = known_mark(gaps, hand, fewer[hand]) - known_mark(gaps, hand, counts[hand])
-        return [(fewer, (place + turn * width) % gaps.dial.size)]
-    free, step = free_places(gaps, fewer)
-    turned = [(place + turn * width) % gaps.dial.size for turn in range(marks)]
-    return [(fewer, before) for before in turned if (before - free) % step == 0]
+        turn = known_mark(gaps, hand, counts[hand] - 1) - known_mark(gaps, hand, counts[hand])
+        return [(place, (place + turn * width) % size) for place in told]
+    free, step = free_places(gaps, struck(counts, hand))
+    back = [(place, (place + turn * width) % size) for place in told for turn in range(marks)]
+    return [(place, before) for place, before in back if (before - free) % step == 0]
 
 
-def add_stories(layer, counts, place, stories):
-    """Adds stories to a layer."""
+def add_stories(layer, counts, steps, places):
+    """Adds the stories of some places to a layer, at some counts, at the places to which steps lead."""
     told = layer.setdefault(counts, {})
-    told[place] = told.get(place, 0) + stories
+    for place, other in steps:
+        told[other] = told.get(other, 0) + places[place]
 
 
 def layer_behind(gaps, layer):
     """The layer of one deed more, of the stories that come to a layer."""
     longer = {}
     for counts, places in layer.items():
-        for place, stories in places.items():
-            for more, after, _ in places_behind(gaps, counts, place):
-                add_stories(longer, more, after, stories)
+        for hand in hands_left(gaps, counts):
+            steps = steps_on(gaps, counts, hand, places)
+            if steps:
+                add_stories(longer, with_deed(counts, hand), steps, places)
     return longer
 
 
@@ -120,9 +116,10 @@ def layer_ahead(gaps, layer):
     """The layer of one deed fewer, of the ways that go on from a layer."""
     shorter = {}
     for counts, places in layer.items():
-        for place, stories in places.items():
-            for fewer, before in places_ahead(gaps, counts, place):
-                add_stories(shorter, fewer, before, stories)
+        for hand, count in enumerate(counts):
+            steps = steps_back(gaps, counts, hand, places) if count > 0 else []
+            if steps:
+                add_stories(shorter, struck(counts, hand), steps, places)
     return shorter
 
 
@@ -158,25 +155,31 @@ def wanted_places(gaps):
     wanted = {counts: places for layer in gaps.lasts for counts, places in layer.items()}
     for layer in gaps.firsts[:-1][::-1]:
         for counts, places in layer.items():
-            wanted[counts] = {place: True for place in places if steps_wanted(gaps, wanted, counts, place)}
+            steps = [steps_wanted(gaps, wanted, counts, hand, places) for hand in hands_left(gaps, counts)]
+            wanted[counts] = {place: True for row in steps for place, _ in row}
     return wanted
 
 
-def steps_wanted(gaps, wanted, counts, place):
-    """Those of places_behind that are wanted."""
-    return [step for step in places_behind(gaps, counts, place) if step[1] in wanted.get(step[0], {})]
+def steps_wanted(gaps, wanted, counts, hand, places):
+    """Those of steps_on that lead to wanted places."""
+    steps = steps_on(gaps, counts, hand, places)
+    if not steps:
+        return []
+    behind = wanted.get(with_deed(counts, hand), {})
+    return [(place, after) for place, after in steps if after in behind]
 
 
 def rows_behind(gaps, wanted, layer):
     """By counts, by place, by last marks how many stories of one deed more come there, where they are wanted."""
     longer = {}
     for counts, places in layer.items():
-        for place, lasts in places.items():
-            for more, after, hand in steps_wanted(gaps, wanted, counts, place):
-                marks = gaps.dial.hands.marks[hand]
-                turn = (after - place) // (gaps.dial.size // marks)
-                told = longer.setdefault(more, {}).setdefault(after, {})
-                for last, stories in lasts.items():
+        for hand in hands_left(gaps, counts):
+            marks = gaps.dial.hands.marks[hand]
+            width = gaps.dial.size // marks
+            for place, after in steps_wanted(gaps, wanted, counts, hand, places):
+                told = longer.setdefault(with_deed(counts, hand), {}).setdefault(after, {})
+                turn = (after - place) // width
+                for last, stories in places[place].items():
                     now = with_item(last, hand, (last[hand] + turn) % marks)
                     told[now] = told.get(now, 0) + stories
     return longer
