@@ -1,23 +1,18 @@
-"""Scales: logarithms to base 2 as whole numbers, from below."""
+"""Scales: logarithms to base 2 as whole numbers, from below, and shares as whole numbers."""
 
-# 2 ** 64, so that what is cut off below it stays far below the last figure.
-UNIT = 18446744073709551616
-FIGURES = 32
-# By how much a scale may be too small.
-SLACK = 2
-
-
-def scale_of(number):
-    """The logarithm of a number from 1 on, times 2 ** 32; less than SLACK below it, never above."""
-    scale = number.bit_length() - 1
-    rest = number * UNIT
-    for _ in range(scale):
-        rest = rest // 2
-    # Squaring doubles the logarithm; of what is then 2 or more, one figure more is 1.
-    for _ in range(FIGURES):
-        rest = rest * rest // UNIT
-        scale = scale * 2
-        if rest >= 2 * UNIT:
-            rest = rest // 2
-            scale += 1
-    return scale
+# By number of marks the logarithm times 2 ** 32, cut off; 0 stands for 0 marks, which no hand has.
+# They are written out, for to find them anew takes as long as a search that needs them.
+SCALES = (
+    0, 0, 4294967296, 6807362105, 8589934592, 9972605231, 11102329401, 12057497578, 12884901888, 13614724211,
+    14267572527, 14858145664, 15397296697, 15893267570, 16352464874, 16779967337, 17179869184, 17555519226,
+    17909691507, 18244709746, 18562539823, 18864859684, 19153112960, 19428550662, 19692263993, 19945210462,
+    20188234866, 20422086317, 20647432170, 20864869498, 21074934633, 21278111131, 21474836480, 21665507770,
+    21850486522, 22030102809, 22204658803, 22374431835, 22539677042, 22700629676, 22857507119, 23010510646,
+    23159826980, 23305629660, 23448080256, 23587329443, 23723517958, 23856777460, 23987231289, 24114995157,
+    24240177758, 24362881332, 24483202162, 24601231026, 24717053613, 24830750896, 24942399466, 25052071852,
+    25159836794, 25265759511, 25369901929,
+)
+# A scale is less than this below the logarithm, never above.
+SLACK = 1
+# The least common multiple of all numbers up to 60: of this each hand's share is a whole number.
+WHOLE = 9690712164777231700912800

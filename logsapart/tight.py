@@ -2,8 +2,8 @@
 
 from logsapart.basics import is_below, sum_of_parts, with_item
 from logsapart.errors import Refused
+from logsapart.falls import FEWEST_MARKS
 from logsapart.hands import FEWEST_HANDS, MOST_MARKS, is_telling
-from logsapart.weights import FEWEST_MARKS
 
 MOST_TIGHT = 5
 

@@ -3,11 +3,11 @@
 from logsapart.basics import is_below, is_sequence, product_of
 from logsapart.counts import logs_with
 from logsapart.errors import Refused
+from logsapart.falls import FEWEST_MARKS, falls_of, steps_of, up_to
 from logsapart.hands import FEWEST_HANDS, MOST_HANDS, MOST_MARKS
-from logsapart.scales import SLACK, scale_of
+from logsapart.scales import SCALES, SLACK, WHOLE
 
 MOST_NUMBER = 400
-FEWEST_MARKS = 2
 
 
 def check_numbers(numbers):
@@ -29,7 +29,15 @@ def log_number(hands, numbers):
 
 def to_the_power(number, times):
     """A number multiplied by itself so many times."""
-    return product_of([number] * times)
+    result = 1
+    power = number
+    left = times
+    while left > 0:
+        if left % 2 == 1:
+            result = result * power
+        power = power * power
+        left = left // 2
+    return result
 
 
 def weight_bounds(numbers):
@@ -42,108 +50,91 @@ def weight_bounds(numbers):
 class Spread:
     """A search for marks: the hands by falling numbers of deeds, and the best marks so far.
 
-    Costs are scales of how many logs there are. Of two hands the one with more deeds has not more
-    marks, for else it would pay to change them: so the marks grow along these hands.
+    Costs are scales of how many logs there are, and what is left of 1 is told as a part of WHOLE. Of two
+    hands the one with more deeds has not more marks, for else it would pay to change them: so the marks
+    grow along these hands.
     """
 
     def __init__(self, numbers):
         order = sorted([(-number, hand) for hand, number in enumerate(numbers)])
         self.hands = [hand for _, hand in order]
         self.numbers = [numbers[hand] for hand in self.hands]
-        self.scales = [0] + [scale_of(marks) for marks in range(1, MOST_MARKS + 1)]
-        # The deeds of the first hands, and bounds above the scales of all f to the power of f.
-        self.deeds = [0]
-        self.own = [0]
-        for number in self.numbers:
-            self.deeds.append(self.deeds[-1] + number)
-            self.own.append(self.own[-1] + number * (scale_of(number) + SLACK))
+        self.falls = falls_of(self.numbers)
+        self.prices = [price for price, _, _ in steps_of(1)]
+        # By how much costs may be too small.
+        self.slack = SLACK * sum(numbers)
         self.best = None
-        self.limit = 0
+        self.cost = 0
 
     def is_worse(self, cost):
-        """Whether a cost, told from below, is surely above that of the best marks."""
-        return self.best is not None and cost > self.limit
+        """Whether a cost is surely above that of the best marks."""
+        return self.best is not None and cost > self.cost + self.slack
+
+    def is_better(self, cost):
+        """Whether a cost is surely below that of the best marks."""
+        return self.best is None or cost + self.slack < self.cost
+
+    def by_hand(self, marks):
+        """Marks along these hands as a tuple by hand."""
+        return tuple([k for _, k in sorted(zip(self.hands, marks))])
+
+    def rank(self, marks):
+        """What is least for the best marks: how many logs there are, then the marks by hand."""
+        powers = [to_the_power(k, number) for k, number in zip(marks, self.numbers)]
+        return (product_of(powers), self.by_hand(marks))
 
     def offer(self, marks, cost):
-        """Keeps marks if they are the best: those with the fewest logs, then the least tuple by hand."""
-        logs = product_of([to_the_power(k, number) for k, number in zip(marks, self.numbers)])
-        placed = sorted(zip(self.hands, marks))
-        found = (logs, tuple([k for _, k in placed]))
-        if self.best is None or found < self.best:
-            self.best = found
-            self.limit = cost + SLACK * self.deeds[-1]
-
-
-def rest_cost(spread, at, top, bottom):
-    """A bound below the costs of the hands from one on, if their share is at most top over bottom.
-
-    If all fractions were marks the best ones would be as many times 1 over a hand's deeds for each
-    of them; but hands for which that comes to more than 60 have 60.
-    """
-    end = len(spread.numbers)
-    above = top
-    below = bottom
-    cost = 0
-    while end > at + 1:
-        number = spread.numbers[end - 1]
-        if (spread.deeds[end] - spread.deeds[at]) * below <= MOST_MARKS * number * above:
-            break
-        above = above * MOST_MARKS - below
-        below = below * MOST_MARKS
-        cost = cost + number * spread.scales[MOST_MARKS]
-        end -= 1
-    deeds = spread.deeds[end] - spread.deeds[at]
-    own = spread.own[end] - spread.own[at]
-    return cost + deeds * (scale_of(deeds) + scale_of(below) - scale_of(above) - SLACK) - own
+        """Keeps marks if they are the best. Only if costs are too near to tell it the logs are counted."""
+        if self.is_worse(cost):
+            return
+        if self.is_better(cost) or self.rank(marks) < self.rank(self.best):
+            self.best = marks
+            self.cost = cost
 
 
 def next_marks(spread, begun):
-    """All rows of marks with one more, the best bound first: (bound, marks, top, bottom, cost).
+    """What marks the next hand may have if they are to be the best, the least bound first: (bound, marks).
 
-    What is left of 1 is top over bottom; so much is left that all others still find room.
+    So much is left that all others still find room.
     """
-    marks, top, bottom, cost = begun
+    marks, left, cost = begun
     at = len(marks)
-    others = len(spread.numbers) - at - 1
-    fewest = max(marks[-1] if marks else FEWEST_MARKS, bottom // top + 1)
+    number = spread.numbers[at]
+    others = (len(spread.numbers) - at - 1) * (WHOLE // MOST_MARKS)
+    fewest = max(marks[-1] if marks else FEWEST_MARKS, fewest_within(left - others))
+    middle = FEWEST_MARKS + up_to(spread.prices, spread.falls[at].price_at(left) // number)
+    ways = (list(range(max(fewest, middle), MOST_MARKS + 1)), list(range(middle - 1, fewest - 1, -1)))
     rows = []
-    for k in range(fewest, MOST_MARKS + 1):
-        above = top * k - bottom
-        below = bottom * k
-        if above * MOST_MARKS >= others * below:
-            dearer = cost + spread.numbers[at] * spread.scales[k]
-            bound = dearer + rest_cost(spread, at + 1, above, below)
-            rows.append((bound, (*marks, k), above, below, dearer))
+    for way in ways:
+        for k in way:
+            bound = cost + number * SCALES[k] + spread.falls[at + 1].cost_at(left - WHOLE // k)
+            # From the middle on the bounds only grow, both ways.
+            if spread.is_worse(bound):
+                break
+            rows.append((bound, k))
     return sorted(rows)
 
 
-def try_last_two(spread, begun):
-    """Offers all marks that go on with these by the last two hands, the last one having the fewest that it may."""
-    marks, top, bottom, cost = begun
-    fewest = max(marks[-1] if marks else FEWEST_MARKS, bottom // top + 1)
-    number, last_number = spread.numbers[-2:]
-    for k in range(fewest, MOST_MARKS + 1):
-        above = top * k - bottom
-        last = max(k, (bottom * k + above - 1) // above)
-        if last <= MOST_MARKS:
-            dearer = cost + number * spread.scales[k] + last_number * spread.scales[last]
-            if not spread.is_worse(dearer):
-                spread.offer((*marks, k, last), dearer)
+def fewest_within(share):
+    """The fewest marks with which a hand takes at most a share."""
+    return (WHOLE + share - 1) // share
 
 
 def try_marks(spread, begun):
     """Offers all marks that go on with these, but those that are surely worse than others."""
-    if len(begun[0]) == len(spread.numbers) - 2:
-        try_last_two(spread, begun)
+    marks, left, cost = begun
+    number = spread.numbers[len(marks)]
+    if len(marks) == len(spread.numbers) - 1:
+        last = max(marks[-1], fewest_within(left))
+        spread.offer((*marks, last), cost + number * SCALES[last])
         return
-    for bound, marks, top, bottom, cost in next_marks(spread, begun):
+    for bound, k in next_marks(spread, begun):
         if not spread.is_worse(bound):
-            try_marks(spread, (marks, top, bottom, cost))
+            try_marks(spread, ((*marks, k), left - WHOLE // k, cost + number * SCALES[k]))
 
 
 def least_marks(numbers):
     """By hand how many marks, so that the share is at most 1 and there are the fewest logs."""
     spread = Spread(check_numbers(numbers))
-    try_marks(spread, ((), 1, 1, 0))
-    _, marks = spread.best
-    return marks
+    try_marks(spread, ((), WHOLE, 0))
+    return spread.by_hand(spread.best)

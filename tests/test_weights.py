@@ -4,7 +4,8 @@ import random
 import unittest
 from fractions import Fraction
 from itertools import combinations_with_replacement, product
-from math import factorial, prod
+from math import factorial, lcm, prod
+from time import process_time
 
 from logsapart.errors import Refused
 from logsapart.hands import Hands
@@ -14,6 +15,17 @@ from support import Raising, any_values, fraction_share, is_deep_tuple, small_ha
 
 WRONG_NUMBERS = any_values() + [
     0, 5, (1,), [3], (1,) * 9, (0, 1), (1, 0), (401, 1), (1, 401), (1, True), (1, None), (2, -1), (1, "1"), ((1,), 2), (1, 10 ** 30),
+]
+
+# Numbers for which a search may take longer than for others: most are equal, or two are large and all others small.
+ALIKE = [
+    (1, 1, 1, 1, 1, 1, 1, 3), (1, 1, 3, 1, 1, 1, 1, 1), (12, 12, 36, 12, 12, 12, 12, 12),
+    (119, 119, 119, 119, 119, 357, 119, 119), (1, 1, 1, 1, 1, 2, 1, 1), (5, 5, 5, 5, 5, 5, 5, 10),
+    (40, 40, 40, 40, 40, 40, 80, 40), (200, 200, 200, 200, 200, 200, 200, 400),
+]
+LARGE_AND_SMALL = [
+    (4, 4, 75, 4, 8, 4, 75, 9), (22, 22, 22, 31, 38, 65, 400, 400), (24, 400, 24, 80, 34, 374, 34, 24),
+    (12, 12, 12, 17, 21, 36, 271, 271), (7, 7, 7, 7, 10, 17, 285, 285),
 ]
 
 
@@ -32,6 +44,35 @@ def plain_least(numbers, most=60):
             if best is None or found < best:
                 best = found
     return best[1]
+
+
+# Of this the share of each hand is a whole number.
+WHOLE = lcm(*range(2, 61))
+
+
+def all_marks(many):
+    """All rows of 2 to 60 marks with a share of at most 1."""
+    return [marks for marks in product(range(2, 61), repeat=many) if sum(WHOLE // k for k in marks) <= WHOLE]
+
+
+def least_of(rows, numbers):
+    """Of some rows the one with the fewest logs, of several the least one."""
+    powers = [[k ** f for k in range(61)] for f in numbers]
+    return min((prod(power[k] for power, k in zip(powers, marks)), marks) for marks in rows)[1]
+
+
+def growing_marks(numbers, most, begun=(), left=WHOLE, logs=1):
+    """All rows of marks, none below the one ahead, with a share of at most 1 and at most so many logs."""
+    at = len(begun)
+    if at == len(numbers):
+        yield begun
+        return
+    for k in range(begun[-1] if begun else 2, 61):
+        # No hand behind has fewer marks than this one.
+        if logs * k ** sum(numbers[at:]) > most:
+            break
+        if WHOLE // k < left or (WHOLE // k == left and at == len(numbers) - 1):
+            yield from growing_marks(numbers, most, (*begun, k), left - WHOLE // k, logs * k ** numbers[at])
 
 
 def near_marks(marks, steps):
@@ -97,6 +138,62 @@ class LeastMarks(unittest.TestCase):
         for top in (4, 30, 400):
             for _ in range(4):
                 self.check(tuple(source.randrange(1, top + 1) for _ in range(3)))
+
+    def test_two_hands_by_trying_all_marks(self):
+        source = random.Random(64)
+        rows = all_marks(2)
+        many = [tuple(source.randrange(1, 401) for _ in range(2)) for _ in range(60)]
+        for numbers in [*product(range(1, 11), repeat=2), *many, (400, 400), (1, 400), (400, 1), (400, 7), (13, 400)]:
+            self.assertEqual(least_of(rows, numbers), least_marks(numbers), numbers)
+
+    def test_three_hands_by_trying_all_marks(self):
+        source = random.Random(65)
+        rows = all_marks(3)
+        many = [tuple(source.randrange(1, top + 1) for _ in range(3)) for top in (4, 20, 100, 400, 400)]
+        many += [(1, 1, 1), (1, 1, 3), (2, 1, 2), (3, 1, 2), (1, 2, 4), (400, 1, 1), (1, 400, 400), (400, 20, 1), (400, 400, 400)]
+        for numbers in many:
+            self.assertEqual(least_of(rows, numbers), least_marks(numbers), numbers)
+
+    def check_growing(self, numbers):
+        """Holds the answer against all rows of marks that grow as the numbers of deeds fall."""
+        told = least_marks(numbers)
+        order = sorted(range(len(numbers)), key=lambda hand: (-numbers[hand], hand))
+        self.assertLessEqual(fraction_share(told), 1)
+        rows = growing_marks([numbers[hand] for hand in order], plain_log_number(told, numbers))
+        placed = (tuple(marks[order.index(hand)] for hand in range(len(numbers))) for marks in rows)
+        self.assertEqual(least_of(placed, numbers), told, numbers)
+
+    def test_equal_numbers_by_trying_all_growing_marks(self):
+        for many in range(2, 9):
+            for number in (1, 2, 7, 60, 399, 400):
+                self.check_growing((number,) * many)
+
+    def test_equal_numbers_but_one_by_trying_all_growing_marks(self):
+        for many in range(2, 9):
+            for number, other in ((1, 2), (1, 3), (2, 3), (3, 2), (5, 4), (9, 1), (1, 4), (100, 350)):
+                self.check_growing((number,) * (many - 1) + (other,))
+                self.check_growing((number,) * (many // 2) + (other,) + (number,) * (many - 1 - many // 2))
+
+    def test_slow_numbers_by_trying_all_growing_marks(self):
+        for numbers in [*ALIKE, LARGE_AND_SMALL[0]]:
+            self.check_growing(numbers)
+
+    def test_any_numbers_by_trying_all_growing_marks(self):
+        source = random.Random(66)
+        for many in range(4, 9):
+            for top in (2, 3, 5, 12, 100, 400):
+                for _ in range(2):
+                    self.check_growing([source.randrange(1, top + 1) for _ in range(many)])
+
+    def test_no_numbers_take_long(self):
+        # A few thousandths of a second each; the limit leaves room for slow machines.
+        for numbers in ALIKE + LARGE_AND_SMALL:
+            taken = []
+            for _ in range(3):
+                begun = process_time()
+                least_marks(numbers)
+                taken.append(process_time() - begun)
+            self.assertLess(min(taken), 0.1, numbers)
 
     def test_four_hands_by_trying_all_tight_marks(self):
         # Least marks are tight, so it is enough to try all orders of these.
